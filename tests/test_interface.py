@@ -1,0 +1,97 @@
+"""The names and arguments of the interface, and the files' sizes and signs."""
+
+import ast
+import doctest
+import importlib
+import inspect
+import unittest
+from pathlib import Path
+
+PACKAGE = Path(__file__).resolve().parent.parent / "wittspaces"
+
+FUNCTIONS = {
+    "whole": {
+        "is_integer": ["value"], "power": ["a", "k"], "gauss": ["n", "k", "q"], "invertible_count": ["n", "q"],
+    },
+    "linear": {
+        "is_row": ["field", "value", "n"], "unit_row": ["n", "i"], "add": ["field", "v", "w"],
+        "scaled": ["field", "v", "c"], "dot": ["field", "v", "w"], "combine": ["field", "rows", "weights", "width"],
+        "reduced": ["field", "rows", "width"], "span": ["field", "rows", "width"],
+        "is_space": ["field", "value", "width"], "kernel": ["field", "rows", "width"],
+        "relations": ["field", "rows", "width"], "solve": ["field", "rows", "width", "right"],
+        "coordinates": ["field", "rows", "v"], "holds": ["field", "space", "v"], "rest": ["field", "space", "v"],
+        "sum_of": ["field", "a", "b", "width"], "common_part": ["field", "a", "b", "width"],
+        "complement_rows": ["space", "width"], "all_rows": ["field", "space", "width"],
+        "moved": ["field", "v", "rows", "width"], "times": ["field", "one", "two", "width"],
+        "transposed": ["rows", "width"], "mirrored_rows": ["field", "rows"], "identity": ["n"],
+        "is_matrix": ["field", "value", "n"], "determinant": ["field", "matrix"],
+        "matrix_inverse": ["field", "matrix"],
+    },
+}
+
+CLASSES = {
+    "errors": {"Fault": {}, "Malformed": {}, "Refused": {"__init__": ["reason"]}, "NoText": {"__init__": ["at"]}},
+    "field": {
+        "Field": {
+            "__init__": ["q"], "__eq__": ["other"], "is_number": ["value"], "numbers": [], "add": ["a", "b"],
+            "subtract": ["a", "b"], "negative": ["a"], "multiply": ["a", "b"], "inverse": ["a"],
+            "power": ["a", "k"], "mirrored": ["a"], "is_fixed": ["a"], "trace": ["a"], "norm": ["a"],
+            "is_square": ["a"], "root": ["a"], "least_nonsquare": [], "least_without_root": [], "half_root": ["k"],
+        },
+    },
+}
+
+
+def parameters(function):
+    return list(inspect.signature(function).parameters)
+
+
+class Names(unittest.TestCase):
+    def test_functions(self):
+        for module_name, functions in FUNCTIONS.items():
+            module = importlib.import_module(f"wittspaces.{module_name}")
+            for name, arguments in functions.items():
+                function = getattr(module, name)
+                self.assertEqual(function.__module__, module.__name__)
+                self.assertEqual(parameters(function), arguments, name)
+
+    def test_classes(self):
+        for module_name, classes in CLASSES.items():
+            module = importlib.import_module(f"wittspaces.{module_name}")
+            for name, methods in classes.items():
+                made = getattr(module, name)
+                self.assertEqual(made.__module__, module.__name__)
+                for method, arguments in methods.items():
+                    self.assertIn(method, vars(made))
+                    self.assertEqual(parameters(vars(made)[method])[1:], arguments, (name, method))
+
+    def test_generator(self):
+        from wittspaces.linear import all_rows
+        self.assertTrue(inspect.isgeneratorfunction(all_rows))
+
+    def test_package_defines_nothing(self):
+        tree = ast.parse((PACKAGE / "__init__.py").read_text())
+        self.assertTrue(all(isinstance(node, ast.Expr) for node in tree.body))
+
+
+class Files(unittest.TestCase):
+    def test_examples_of_the_readme(self):
+        text = (PACKAGE.parent / "README.md").read_text().replace("```", "")
+        result = doctest.DocTestRunner().run(doctest.DocTestParser().get_doctest(text, {}, "README", None, None))
+        self.assertEqual(result.failed, 0)
+        self.assertGreater(result.attempted, 0)
+
+    def test_sizes_and_signs(self):
+        for path in PACKAGE.glob("*.py"):
+            text = path.read_bytes().decode("ascii")
+            lines = text.split("\n")
+            self.assertLess(len(lines), 400, path)
+            self.assertTrue(all(len(line) <= 120 for line in lines), path)
+            self.assertTrue(all(sign == "\n" or " " <= sign <= "~" for sign in text), path)
+            for node in ast.walk(ast.parse(text)):
+                if isinstance(node, ast.FunctionDef):
+                    self.assertLessEqual(node.end_lineno - node.lineno + 1, 40, (path, node.name))
+
+
+if __name__ == "__main__":
+    unittest.main()

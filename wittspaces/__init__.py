@@ -1,0 +1,1 @@
+"""Spaces with a form over small fields, with papers."""
