@@ -27,6 +27,22 @@ FUNCTIONS = {
         "is_matrix": ["field", "value", "n"], "determinant": ["field", "matrix"],
         "matrix_inverse": ["field", "matrix"],
     },
+    "space": {"read_space": ["text"]},
+    "build": {
+        "hyperbolic": ["kind", "q", "m"], "zero_space": ["kind", "q", "n"], "of_matrix": ["q", "matrix"],
+        "direct_sum": ["a", "b"], "scaled": ["space", "c"], "restricted": ["space", "rows"],
+        "changed": ["space", "rows"], "complement": ["space"], "core": ["space"],
+    },
+    "normal": {
+        "invariants": ["space"], "is_normal": ["space"], "normal_space": ["kind", "q", "numbers"],
+        "normal_form": ["space"], "orthogonal_basis": ["space"], "pairs_basis": ["space"],
+        "discriminant": ["space"], "sign": ["space"],
+    },
+    "similar": {
+        "isometric": ["a", "b"], "find_isometry": ["a", "b"], "witt_basis": ["space"], "witt_index": ["space"],
+        "anisotropic_part": ["space"], "greatest_singular": ["space"],
+    },
+    "counts": {"value_counts": ["space"], "singular_count": ["space", "k"]},
 }
 
 CLASSES = {
@@ -37,6 +53,13 @@ CLASSES = {
             "subtract": ["a", "b"], "negative": ["a"], "multiply": ["a", "b"], "inverse": ["a"],
             "power": ["a", "k"], "mirrored": ["a"], "is_fixed": ["a"], "trace": ["a"], "norm": ["a"],
             "is_square": ["a"], "root": ["a"], "least_nonsquare": [], "least_without_root": [], "half_root": ["k"],
+        },
+    },
+    "space": {
+        "Space": {
+            "__init__": ["kind", "q", "matrix"], "__eq__": ["other"], "__str__": [], "is_row": ["value"], "zero": [],
+            "unit": ["i"], "rows": [], "value": ["x"], "product": ["x", "y"], "gram": [], "radical": [],
+            "singular_radical": [], "perp": ["rows"], "is_singular": ["rows"],
         },
     },
 }
