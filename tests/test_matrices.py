@@ -3,7 +3,7 @@ import unittest
 from helper import (
     MIRROR, SIZES, Source, invertibles, odd_values, slow_combine, slow_determinant, some_invertible, walk,
 )
-from itertools import product
+from itertools import permutations, product
 from wittspaces.errors import Refused
 from wittspaces.field import Field
 from wittspaces.linear import (
@@ -79,6 +79,12 @@ class Inverses(unittest.TestCase):
             for order, even in (((1, 0, 2), 0), ((1, 2, 0), 1), ((2, 1, 0), 0), ((2, 0, 1), 1)):
                 m = tuple(unit_row(3, i) for i in order)
                 self.assertEqual(determinant(field, m), 1 if even else field.negative(1))
+
+    def test_determinant_of_all_orders_of_unit_rows(self):
+        for order in permutations(range(4)):
+            m = tuple(unit_row(4, i) for i in order)
+            swaps = sum(order[i] > order[j] for i in range(4) for j in range(i + 1, 4))
+            self.assertEqual(determinant(Field(5), m), 1 if swaps % 2 == 0 else 4)
 
     def test_inverse(self):
         for q, n in CASES:

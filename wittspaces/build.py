@@ -52,8 +52,6 @@ def of_matrix(q, matrix):
     field = field_of("quadratic", q)
     rows = square_rows(field, matrix)
     n = len(rows)
-    if n > MOST_ROWS:
-        raise Refused("large")
     items = {(i, j): field.add(rows[i][j], rows[j][i]) for i in range(n) for j in range(i + 1, n)}
     for i in range(n):
         items[i, i] = rows[i][i]

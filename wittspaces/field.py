@@ -134,6 +134,4 @@ class Field:
 
     def least_without_root(self):
         """The least `k` for which no number `x` has `x x + x = k`, in characteristic 2."""
-        if self.p != 2:
-            raise Refused("odd")
         return [k for k in self.numbers() if self.half_root(k) is None][0]

@@ -13,7 +13,7 @@ DIGITS = "0123456789"
 
 def field_of(kind, q):
     """The field of a space of this kind with `q` numbers; Malformed if there is no such space."""
-    if not isinstance(kind, str) or kind not in KINDS:
+    if kind not in KINDS:
         raise Malformed("no kind of a space")
     field = Field(q)
     if kind == "hermitian" and q == field.p:
@@ -123,9 +123,7 @@ class Space:
     def singular_radical(self):
         """The reduced table of the rows of the radical with the value 0."""
         radical = self.radical()
-        if self.kind != "quadratic" or self.field.p != 2:
-            return radical
-        # In characteristic 2 the root of the value is linear on the radical.
+        # In characteristic 2 the root of the value is linear on the radical; otherwise all values there are 0.
         roots = tuple(self.field.root(self.value(row)) for row in radical)
         weights = kernel(self.field, (roots,), len(radical))
         return times(self.field, weights, radical, self.n)
@@ -142,12 +140,12 @@ class Space:
 
 
 def _digits_in(words):
-    """The tuple of the digits, -1 for a word that is no single digit."""
-    return tuple(DIGITS.find(word) if len(word) == 1 else -1 for word in words)
+    """The tuple of the digits; for a word that is no digit any number, or -1."""
+    return tuple(DIGITS.find(word) for word in words)
 
 
 def _read_rows(body):
-    """The matrix behind the colon of a text; what is no digit is -1."""
+    """The matrix behind the colon of a text, read as if it were one."""
     if body == "":
         return ()
     return tuple(_digits_in(row.split(" ")[1:]) for row in body.split(";"))
@@ -166,7 +164,7 @@ def read_space(text):
         space = Space(kinds[0], _digits_in(words)[1], _read_rows(body))
     except Fault:
         raise NoText(0) from None
-    # Only the text that the space itself writes is its text: this asks for each space and sign, and for `n`.
+    # The text was read loosely; only the text that the space itself writes is its text.
     if str(space) != text:
         raise NoText(0)
     return space
