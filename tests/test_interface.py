@@ -43,6 +43,16 @@ FUNCTIONS = {
         "anisotropic_part": ["space"], "greatest_singular": ["space"],
     },
     "counts": {"value_counts": ["space"], "singular_count": ["space", "k"]},
+    "polar": {
+        "points": ["space"], "singular_subspaces": ["space", "k"], "points_of": ["space", "table"],
+        "joined": ["space", "x"], "one_or_all": ["space", "x", "line"], "residue": ["space", "table"],
+    },
+    "isometry": {"is_isometry": ["space", "value"]},
+    "kinds": {
+        "reflection": ["space", "u"], "transvection": ["space", "u", "c"], "unitary": ["space", "u", "c"],
+        "siegel": ["space", "u", "w"], "unitary_numbers": ["space", "u"],
+    },
+    "groups": {"group_order": ["space"], "isometries": ["space"]},
 }
 
 CLASSES = {
@@ -60,6 +70,12 @@ CLASSES = {
             "__init__": ["kind", "q", "matrix"], "__eq__": ["other"], "__str__": [], "is_row": ["value"], "zero": [],
             "unit": ["i"], "rows": [], "value": ["x"], "product": ["x", "y"], "gram": [], "radical": [],
             "singular_radical": [], "perp": ["rows"], "is_singular": ["rows"],
+        },
+    },
+    "isometry": {
+        "Isometry": {
+            "__init__": ["space", "matrix"], "__eq__": ["other"], "__call__": ["v"], "then": ["g"], "inverse": [],
+            "power": ["k"], "is_identity": [], "order": [], "fixed": [], "residual": [],
         },
     },
 }

@@ -75,7 +75,7 @@ def scaled(space, c):
     return Space(space.kind, space.q, tuple(tuple(field.multiply(c, a) for a in row) for row in space.matrix))
 
 
-def _are_rows(space, rows):
+def are_rows(space, rows):
     """True if the value is a list or tuple of rows of the space."""
     return isinstance(rows, (list, tuple)) and all([space.is_row(row) for row in rows])
 
@@ -91,7 +91,7 @@ def _item(space, rows, i, j):
 
 def restricted(space, rows):
     """The space restricted to some rows, which need not be independent."""
-    if not _are_rows(space, rows):
+    if not are_rows(space, rows):
         raise Malformed("no rows of the space")
     k = len(rows)
     if k > MOST_ROWS:
@@ -102,7 +102,7 @@ def restricted(space, rows):
 
 def changed(space, rows):
     """The same space in the basis of `n` independent rows."""
-    if not _are_rows(space, rows) or len(rows) != space.n or len(span(space.field, rows, space.n)) != space.n:
+    if not are_rows(space, rows) or len(rows) != space.n or len(span(space.field, rows, space.n)) != space.n:
         raise Malformed("no basis of the space")
     return restricted(space, rows)
 
