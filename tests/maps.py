@@ -51,6 +51,22 @@ def times(q, one, two, width):
     return tuple(slow_moved(q, row, two, width) for row in one)
 
 
+def rank(q, rows):
+    """The number of rows that are left when each one that is not 0 has been taken off the others."""
+    left, many = [row for row in rows if any(row)], 0
+    while left:
+        head, many = left[0], many + 1
+        place = [c != 0 for c in head].index(True)
+        unit = slow_scaled(q, head, inverse_of(q, head[place]))
+        left = [slow_add(q, row, slow_scaled(q, unit, MINUS[q][row[place]])) for row in left[1:]]
+        left = [row for row in left if any(row)]
+    return many
+
+
+def are_independent(q, rows):
+    return rank(q, rows) == len(rows)
+
+
 def along(space, u, c):
     """The matrix of the map that takes x to x plus c b(x, u) times u."""
     q = space.q

@@ -53,6 +53,22 @@ FUNCTIONS = {
         "siegel": ["space", "u", "w"], "unitary_numbers": ["space", "u"],
     },
     "groups": {"group_order": ["space"], "isometries": ["space"]},
+    "extension": {
+        "is_partial": ["space", "us", "vs"], "common_with_radical": ["space", "rows"],
+        "extends": ["space", "us", "vs"], "extension": ["space", "us", "vs"], "barrier": ["space", "us", "vs"],
+    },
+    "orbits": {
+        "same_orbit": ["space", "x", "y"], "carrier": ["space", "x", "y"], "orbit": ["space", "x"],
+        "orbit_count": ["space"], "carried": ["space", "a", "b"],
+    },
+    "pairing": {
+        "pairing": ["space"], "sign_by_pairing": ["space"], "is_pairing": ["space", "z", "d"],
+        "swaps": ["space", "matrix"], "even_centre": ["space"],
+    },
+    "turns": {
+        "reflections_of": ["f"], "transvections_of": ["f"], "dickson": ["f"], "spinor_norm": ["f"],
+        "product_of_reflections": ["space", "rows"], "product_of_transvections": ["space", "pairs"],
+    },
 }
 
 CLASSES = {
@@ -76,6 +92,14 @@ CLASSES = {
         "Isometry": {
             "__init__": ["space", "matrix"], "__eq__": ["other"], "__call__": ["v"], "then": ["g"], "inverse": [],
             "power": ["k"], "is_identity": [], "order": [], "fixed": [], "residual": [],
+        },
+    },
+    "clifford": {
+        "Clifford": {
+            "__init__": ["space"], "__eq__": ["other"], "is_element": ["value"], "number": ["c"], "row": ["x"],
+            "unit": ["index"], "product_of": ["rows"], "add": ["a", "b"], "negative": ["a"], "scaled": ["a", "c"],
+            "multiply": ["a", "b"], "is_even": ["a"], "turned": ["a"], "reversed_of": ["a"], "inverse": ["a"],
+            "image": ["matrix", "a"],
         },
     },
 }
