@@ -1,8 +1,8 @@
 import unittest
 
 from helper import (
-    FORMS, MINUS, PLUS, SIZES, Source, TIMES, disguised, nested, normals, odd_values, slow_add,
-    slow_combine, slow_moved, slow_scaled, walk,
+    FORMS, MINUS, SIZES, Source, TIMES, disguised, nested, normals, odd_values, slow_add, slow_combine, slow_moved,
+    slow_scaled, walk,
 )
 from maps import (
     drawn_isometry, drawn_spaces, inverse_of, keeps, odd_matrices, outcome, product_of, units, value,
@@ -11,6 +11,7 @@ from wittspaces.build import hyperbolic, zero_space
 from wittspaces.clifford import Clifford
 from wittspaces.isometry import Isometry
 from wittspaces.space import Space
+from words import members, of_word, slow_multiply
 
 QUADRATIC = [form for form in FORMS if form[0] == "quadratic"]
 
@@ -19,48 +20,6 @@ def algebras(seed, most):
     """The algebras of spaces of all normal forms up to a dimension, in drawn bases, each with a source."""
     for space in drawn_spaces(Source(seed), lambda kind, q: most, QUADRATIC):
         yield Clifford(space), Source(seed + space.q + space.n)
-
-
-def of_word(space, word, known):
-    """The product of the unit rows with the indexes of the word, by the relations of point 7.1: a dict of numbers."""
-    if word in known:
-        return known[word]
-    q, matrix = space.q, space.matrix
-    found = {}
-    for at in range(len(word) - 1):
-        i, j = word[at], word[at + 1]
-        before, behind = word[:at], word[at + 2:]
-        if i >= j:
-            if i == j:
-                parts = [(matrix[i][i], before + behind)]
-            else:
-                # e_i e_j is the product of both rows less e_j e_i.
-                parts = [(product_of(space, units(space.n)[i], units(space.n)[j]), before + behind),
-                         (MINUS[q][1], before + (j, i) + behind)]
-            for c, shorter in parts:
-                for index, d in of_word(space, shorter, known).items():
-                    found[index] = PLUS[q][found.get(index, 0)][TIMES[q][c][d]]
-            break
-    else:
-        found = {sum(2 ** i for i in word): 1}
-    known[word] = found
-    return found
-
-
-def members(index):
-    return tuple(i for i in range(5) if index >> i & 1)
-
-
-def slow_multiply(space, a, b, known):
-    q, size = space.q, len(a)
-    items = [0] * size
-    for one in range(size):
-        for two in range(size):
-            both = TIMES[q][a[one]][b[two]]
-            if both:
-                for index, c in of_word(space, members(one) + members(two), known).items():
-                    items[index] = PLUS[q][items[index]][TIMES[q][both][c]]
-    return tuple(items)
 
 
 class Construction(unittest.TestCase):

@@ -69,6 +69,23 @@ FUNCTIONS = {
         "reflections_of": ["f"], "transvections_of": ["f"], "dickson": ["f"], "spinor_norm": ["f"],
         "product_of_reflections": ["space", "rows"], "product_of_transvections": ["space", "pairs"],
     },
+    "families": {
+        "same_family": ["space", "one", "two"], "families": ["space"], "two_above": ["space", "table"],
+        "family_root": ["space", "table", "z"],
+    },
+    "witt": {
+        "witt_class": ["space"], "class_sum": ["a", "b"], "class_negative": ["a"], "class_product": ["a", "b"],
+        "all_classes": ["kind", "q"], "sum_table": ["kind", "q"], "product_table": ["q"], "tensor": ["a", "b"],
+    },
+    "related": {
+        "trace_space": ["space"], "trace_row": ["space", "x"], "trace_matrix": ["space", "matrix"],
+        "polar_space": ["space"], "quadratics": ["space"], "shifted": ["space", "a"],
+        "shift_between": ["one", "two"], "sign_counts": ["space"],
+    },
+    "papers": {
+        "isometry_paper": ["a", "b"], "extension_paper": ["space", "us", "vs"], "index_paper": ["space"],
+        "sign_paper": ["space"], "factors_paper": ["isometry"],
+    },
 }
 
 CLASSES = {
