@@ -100,8 +100,10 @@ def minus(q, a, b):
     return tuple(PLUS[q][c][MINUS[q][d]] for c, d in zip(a, b))
 
 
-def holds_sign(space, paper):
+def holds_sign(space, paper, known=None):
     q, n = space.q, space.n
+    # Of the space alone, so a caller may keep it from one paper to the next.
+    known = {} if known is None else known
     found = parts(paper, "sign", 3)
     if found is None or space.kind != "quadratic" or n not in (0, 2, 4):
         return False
@@ -113,7 +115,7 @@ def holds_sign(space, paper):
         return False
     if any(c and bin(index).count("1") % 2 for index, c in enumerate(z)):
         return False
-    known, one = {}, (1,) + (0,) * (2 ** n - 1)
+    one = (1,) + (0,) * (2 ** n - 1)
     for x in units(n):
         u = row_element(n, x)
         if slow_multiply(space, u, z, known) != slow_multiply(space, minus(q, one, z), u, known):
@@ -191,3 +193,35 @@ def barred(source, space):
         return None
     u, v = found[source.below(len(found))]
     return ((u,), (v,)) if source.below(2) else ((v,), (u,))
+
+
+# Papers spoilt.
+
+WORDS = ("isometry", "apart", "unlike", "extension", "barrier", "index", "sign", "factors")
+
+
+def spoilt(q, value_):
+    """The values that differ from a nested tuple in one place."""
+    if type(value_) is str:
+        yield from [word for word in (*WORDS, "", value_ + "s", value_[:-1]) if word != value_]
+        yield from (None, True, 0, (value_,), [value_])
+    elif type(value_) is int:
+        yield from [c for c in range(-2, q + 2) if c != value_]
+        # True and False are no numbers, though they are equal to 1 and 0.
+        yield from (bool(value_), None, str(value_), (value_,), [value_])
+    else:
+        yield list(value_)
+        yield from (value_ + (0,), value_ + ((),), (value_,), (), None)
+        if value_:
+            yield from (value_[:-1], value_[1:], value_ + value_[-1:], value_[::-1], value_ + (value_[0],))
+        for i, item in enumerate(value_):
+            for other in spoilt(q, item):
+                yield value_[:i] + (other,) + value_[i + 1:]
+
+
+def some_spoilt(source, q, paper, most):
+    """At most so many of these, drawn."""
+    found = list(spoilt(q, paper))
+    if len(found) <= most:
+        return found
+    return [found[source.below(len(found))] for _ in range(most)]

@@ -6,7 +6,7 @@ from helper import (
     slow_scaled, span_set, table_of, tables,
 )
 from maps import (
-    drawn_isometry, inverse_of, odd_rows, outcome, product_of, spaces_of, times, told, units, value,
+    drawn_isometry, odd_rows, outcome, product_of, spaces_of, times, told, units, value,
 )
 from wittspaces.build import hyperbolic, zero_space
 from wittspaces.clifford import Clifford
@@ -16,7 +16,7 @@ from wittspaces.normal import normal_space, sign
 from wittspaces.pairing import pairing
 from wittspaces.space import Space
 from wittspaces.turns import dickson
-from words import slow_multiply, slow_product
+from words import other_pairings, slow_multiply, slow_product
 
 # The dimensions in which all tables can be walked.
 WALKED = {2: (0, 2, 4), 3: (0, 2, 4), 4: (0, 2, 4), 5: (0, 2, 4), 7: (0, 2), 9: (0, 2)}
@@ -188,22 +188,6 @@ class TwoAbove(unittest.TestCase):
                     self.assertTrue(looks_reduced(one) and len(one) == n // 2 and is_singular(form, one))
                     self.assertTrue(set(table) <= span_set(q, one, n))
                 self.assertIs(same_family(form, *found), False)
-
-
-def other_pairings(space, z, d):
-    """All pairings of the space, told by point 7.4 from one of them."""
-    q = space.q
-    one = (1,) + (0,) * (len(z) - 1)
-    for c in range(q):
-        if q in (2, 4):
-            yield slow_add(q, z, slow_scaled(q, one, c)), PLUS[q][PLUS[q][d][c]][TIMES[q][c][c]]
-        elif c != 0:
-            half = inverse_of(q, 2)
-            turned = slow_scaled(q, slow_add(q, one, slow_scaled(q, z, MINUS[q][2])), c)
-            changed = slow_scaled(q, slow_add(q, one, slow_scaled(q, turned, MINUS[q][1])), half)
-            four = PLUS[q][2][2]
-            worth = TIMES[q][TIMES[q][c][c]][PLUS[q][1][MINUS[q][TIMES[q][four][d]]]]
-            yield changed, TIMES[q][PLUS[q][1][MINUS[q][worth]]][inverse_of(q, four)]
 
 
 class Roots(unittest.TestCase):

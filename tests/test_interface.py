@@ -86,6 +86,16 @@ FUNCTIONS = {
         "isometry_paper": ["a", "b"], "extension_paper": ["space", "us", "vs"], "index_paper": ["space"],
         "sign_paper": ["space"], "factors_paper": ["isometry"],
     },
+    "checker": {
+        "takes_isometry": ["a", "b", "paper"], "takes_extension": ["space", "us", "vs", "paper"],
+        "takes_index": ["space", "paper"], "takes_sign": ["space", "paper"], "takes_factors": ["isometry", "paper"],
+    },
+    "sheet": {"read_line": ["line"]},
+    "replies": {"reply_to": ["names", "line"], "defined": ["names", "line"], "is_right": ["names", "entry"]},
+    "log": {
+        "write_data": ["data"], "read_data": ["text"], "write_log": ["entries"], "read_log": ["text"],
+        "first_wrong": ["entries"],
+    },
 }
 
 CLASSES = {
@@ -117,6 +127,12 @@ CLASSES = {
             "unit": ["index"], "product_of": ["rows"], "add": ["a", "b"], "negative": ["a"], "scaled": ["a", "c"],
             "multiply": ["a", "b"], "is_even": ["a"], "turned": ["a"], "reversed_of": ["a"], "inverse": ["a"],
             "image": ["matrix", "a"],
+        },
+    },
+    "replies": {"Reply": {"__init__": ["kind", "text", "data"], "__eq__": ["other"]}},
+    "console": {
+        "Console": {
+            "__init__": ["most"], "__len__": [], "enter": ["line"], "entries": [], "names": [], "log": [],
         },
     },
 }

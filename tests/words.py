@@ -1,7 +1,7 @@
 """Products in the Clifford algebra by the relations of point 7.1, one word of unit rows after the other."""
 
-from helper import MINUS, PLUS, TIMES
-from maps import product_of, units
+from helper import MINUS, PLUS, TIMES, slow_add, slow_scaled
+from maps import inverse_of, product_of, units
 
 
 def of_word(space, word, known):
@@ -60,3 +60,19 @@ def slow_product(space, rows, known):
     for row in rows:
         result = slow_multiply(space, result, row_element(space.n, row), known)
     return result
+
+
+def other_pairings(space, z, d):
+    """All pairings of the space, told by point 7.4 from one of them."""
+    q = space.q
+    one = (1,) + (0,) * (len(z) - 1)
+    for c in range(q):
+        if q in (2, 4):
+            yield slow_add(q, z, slow_scaled(q, one, c)), PLUS[q][PLUS[q][d][c]][TIMES[q][c][c]]
+        elif c != 0:
+            half = inverse_of(q, 2)
+            turned = slow_scaled(q, slow_add(q, one, slow_scaled(q, z, MINUS[q][2])), c)
+            changed = slow_scaled(q, slow_add(q, one, slow_scaled(q, turned, MINUS[q][1])), half)
+            four = PLUS[q][2][2]
+            worth = TIMES[q][TIMES[q][c][c]][PLUS[q][1][MINUS[q][TIMES[q][four][d]]]]
+            yield changed, TIMES[q][PLUS[q][1][MINUS[q][worth]]][inverse_of(q, four)]
