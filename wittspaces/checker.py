@@ -120,8 +120,8 @@ def _are_hyperbolic(space, pairs, rest):
 
 def _is_anisotropic(space, rest):
     """True if no row other than 0 in the span of the independent rows has the value 0."""
-    rows = all_rows(space.field, span(space.field, rest, space.n), space.n)
-    return all([space.value(row) != 0 or not any(row) for row in rows])
+    table = span(space.field, rest, space.n)
+    return all([space.value(row) != 0 or not any(row) for row in all_rows(space.field, table, space.n)])
 
 
 def _is_witt_basis(space, pairs, rest, zeros):
